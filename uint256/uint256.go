@@ -7,6 +7,7 @@ import (
 	"math/bits"
 
 	"pontage/api"
+	"pontage/limbs"
 )
 
 const (
@@ -86,7 +87,7 @@ func Sub(a, b api.Uint256) (api.Uint256, api.Errno) {
 
 // Mul returns a * b, or ErrOverflow if the product is greater than 2^256 - 1.
 func Mul(a, b api.Uint256) (api.Uint256, api.Errno) {
-	low, high := fullProduct(a, b)
+	low, high := limbs.Product(a, b)
 	if high != (api.Uint256{}) {
 		return api.Uint256{}, api.ErrOverflow
 	}
@@ -118,28 +119,4 @@ func SaturatingMul(a, b api.Uint256) api.Uint256 {
 		return largest
 	}
 	return product
-}
-
-// fullProduct returns the low and the high half of the exact 512-bit product.
-// Mul needs the high half to see every way in which a product can overflow.
-func fullProduct(a, b api.Uint256) (api.Uint256, api.Uint256) {
-	var limbs [2 * limbCount]uint64
-	for i, multiplier := range a {
-		var carry uint64
-		for j, limb := range b {
-			carry, limbs[i+j] = multiplyAdd(multiplier, limb, limbs[i+j], carry)
-		}
-		limbs[i+limbCount] = carry
-	}
-	return api.Uint256(limbs[:limbCount]), api.Uint256(limbs[limbCount:])
-}
-
-// multiplyAdd returns the high and the low half of x*y + m + n. The sum fits
-// 128 bits because (2^64-1)^2 + 2*(2^64-1) = 2^128 - 1, so neither addition to
-// the high half wraps around.
-func multiplyAdd(x, y, m, n uint64) (uint64, uint64) {
-	high, low := bits.Mul64(x, y)
-	low, carryM := bits.Add64(low, m, 0)
-	low, carryN := bits.Add64(low, n, 0)
-	return high + carryM + carryN, low
 }
